@@ -1,0 +1,1 @@
+"""Mashrunnings: one mash drawn off to beers strong and small."""

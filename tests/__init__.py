@@ -1,0 +1,1 @@
+"""Tests of mashrunnings: see README.md for how to run them."""
