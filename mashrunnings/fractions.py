@@ -21,6 +21,14 @@ def common_divisor(one, other):
     return one
 
 
+def common_below(fractions):
+    """The least number from 1 on that the belows of all these fractions divide."""
+    together = 1
+    for top, below in fractions:
+        together = together // common_divisor(together, below) * below
+    return together
+
+
 def is_fraction(thing):
     """Whether a thing is a fraction, as it is told."""
     if not is_pair(thing):

@@ -18,3 +18,8 @@ def is_name(thing):
 def is_pair(thing):
     """Whether a thing is a tuple of two, whatever these are."""
     return isinstance(thing, tuple) and len(thing) == 2
+
+
+def is_row(thing):
+    """Whether a thing is a list or a tuple: where a list is told, either one may be looked at."""
+    return isinstance(thing, (list, tuple))

@@ -49,15 +49,20 @@ def strength_of(wort):
     return over(points_of(wort), wort[0])
 
 
+def summed_parts(parts):
+    """Pairs (malt, points) in any order as parts of a wort: malts rising, each once, points above nought."""
+    by_malt = {}
+    for malt, points in parts:
+        by_malt[malt] = plus(by_malt.get(malt, NOUGHT), points)
+    return tuple([(malt, by_malt[malt]) for malt in sorted(by_malt) if by_malt[malt] != NOUGHT])
+
+
 def poured(worts):
     """All of the worts together."""
     together = NOUGHT
-    by_malt = {}
     for gallons, parts in worts:
         together = plus(together, gallons)
-        for malt, points in parts:
-            by_malt[malt] = plus(by_malt.get(malt, NOUGHT), points)
-    return (together, tuple([(malt, by_malt[malt]) for malt in sorted(by_malt)]))
+    return (together, summed_parts([part for gallons, parts in worts for part in parts]))
 
 
 def shared_parts(parts, share):

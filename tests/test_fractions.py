@@ -10,7 +10,9 @@ from mashrunnings.errors import BadFraction, BrewError, NoShare
 from mashrunnings.fractions import (
     fraction_in, fraction_text, is_fraction, is_under, less, made, over, plus, rounded_up, times,
 )
-from tests.samples import any_thing, as_lists, changed_ones, dice, is_told_plainly, nested, pair_of, worth_of_pair
+from tests.samples import (
+    any_thing, as_lists, changed_ones, dice, is_fraction_plainly, is_told_plainly, nested, pair_of, worth_of_pair,
+)
 
 SIGNS = [chr(code) for code in range(32, 127)] + ["\n"]
 BIG = 10 ** 12
@@ -19,12 +21,6 @@ EDGES = [
     for top in (-BIG, 1 - BIG, -7, -1, 0, 1, 2, 3, 6, BIG - 1, BIG)
     for below in (1, 2, 3, 6, BIG - 1, BIG)
 ]
-
-
-def is_fraction_plainly(thing):
-    if type(thing) is not tuple or len(thing) != 2 or [type(part) for part in thing] != [int, int]:
-        return False
-    return thing[1] >= 1 and math.gcd(*thing) == 1
 
 
 def text_plainly(worth):

@@ -1,8 +1,8 @@
-"""Tests of the plain kinds of point [2]: numbers, NAMEs, pairs."""
+"""Tests of the plain kinds of point [2]: numbers, NAMEs, pairs, rows."""
 
 import unittest
 
-from mashrunnings.kinds import is_name, is_number, is_pair
+from mashrunnings.kinds import is_name, is_number, is_pair, is_row
 from tests.samples import WRONG_LEAVES
 
 
@@ -33,6 +33,12 @@ class KindsTest(unittest.TestCase):
         self.assertIs(is_pair((1, None)), True)
         for thing in ((), (1,), (1, 2, 3), [1, 2], "ab", 2, None, True):
             self.assertIs(is_pair(thing), False, repr(thing))
+
+    def test_rows_are_lists_and_tuples(self):
+        for thing in ((), [], (1,), [1, None], ((),)):
+            self.assertIs(is_row(thing), True, repr(thing))
+        for thing in (None, True, False, 0, 2, "", "ab"):
+            self.assertIs(is_row(thing), False, repr(thing))
 
 
 if __name__ == "__main__":

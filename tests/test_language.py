@@ -27,6 +27,18 @@ INTERFACE = {
     "errors": "BrewError BadFraction NoShare TooMuch NoEntry NoThing BadRow".split(),
     "fractions": FRACTIONS.split(),
     "worts": "is_wort points_of strength_of poured parted weakened".split(),
+    "mashes": ["Mash"],
+    "wishes": "is_wish running_of reaches cost_of worth_of".split(),
+    "mixings": "shows_mixing strengths_of rests_of".split(),
+}
+INTERFACE_METHODS = {
+    "Mash": "__init__ liquor pour draw most_drawn give_back inside solved in_grains twin_mash".split(),
+}
+ARGUMENTS = {
+    "Mash": "malts share held", "liquor": "gallons", "pour": "wort", "draw": "gallons", "give_back": "parts",
+    "is_wish": "thing", "running_of": "wort", "reaches": "runnings wish", "cost_of": "runnings wish prices",
+    "worth_of": "runnings prices", "shows_mixing": "runnings wishes thing", "strengths_of": "runnings mixing",
+    "rests_of": "runnings mixing",
 }
 
 
@@ -139,7 +151,68 @@ class LanguageTest(unittest.TestCase):
                     self.assertIn(node.func.attr, methods, (name, node.lineno))
 
 
+    def test_no_local_name_is_that_of_an_import(self):
+        for name, tree in self.trees():
+            imported = {alias.name for node in tree.body if isinstance(node, ast.ImportFrom) for alias in node.names}
+            bound = [node.arg for node in ast.walk(tree) if isinstance(node, ast.arg)]
+            bound += [node.id for node in ast.walk(tree) if isinstance(node, ast.Name) and isinstance(node.ctx, ast.Store)]
+            self.assertEqual(imported & set(bound), set(), name)
+
+    def test_each_name_at_module_level_is_bound_once(self):
+        for name, tree in self.trees():
+            bound = []
+            for node in tree.body:
+                if isinstance(node, (ast.FunctionDef, ast.ClassDef)):
+                    bound.append(node.name)
+                elif isinstance(node, ast.Assign):
+                    bound.extend(target.id for target in node.targets)
+                elif isinstance(node, ast.ImportFrom):
+                    bound.extend(alias.asname or alias.name for alias in node.names)
+            self.assertEqual(len(bound), len(set(bound)), name)
+
+    def test_no_name_is_a_method_and_an_attribute(self):
+        attributes, read = set(), set()
+        for name, tree in self.trees():
+            for node in ast.walk(tree):
+                if isinstance(node, ast.Attribute):
+                    (attributes if isinstance(node.ctx, ast.Store) else read).add(node.attr)
+        self.assertEqual(attributes & (methods_of_all() | METHODS), set())
+        self.assertEqual(read - attributes - methods_of_all() - METHODS, set())
+
+    def test_no_two_files_import_from_each_other(self):
+        needs = {}
+        for name, tree in self.trees():
+            stems = [node.module.split(".")[1] for node in tree.body if isinstance(node, ast.ImportFrom)]
+            needs[name.removesuffix(".py")] = set(stems)
+        while needs:
+            free = {stem for stem, others in needs.items() if not others & set(needs)}
+            self.assertNotEqual(free, set(), needs)
+            needs = {stem: others for stem, others in needs.items() if stem not in free}
+
+
 class InterfaceTest(unittest.TestCase):
+    def test_each_method_is_defined_in_its_class(self):
+        found = {}
+        for path in files():
+            for node in ast.walk(ast.parse(path.read_text())):
+                if isinstance(node, ast.ClassDef):
+                    found[node.name] = [part.name for part in node.body if isinstance(part, ast.FunctionDef)]
+        for name, methods in INTERFACE_METHODS.items():
+            for method in methods:
+                self.assertEqual(found[name].count(method), 1, (name, method))
+
+    def test_arguments_are_as_written(self):
+        told = {}
+        for path in files():
+            for node in ast.walk(ast.parse(path.read_text())):
+                if isinstance(node, ast.FunctionDef):
+                    told[node.name] = [part.arg for part in node.args.args if part.arg != "self"]
+                elif isinstance(node, ast.ClassDef):
+                    own = [part for part in node.body if isinstance(part, ast.FunctionDef) and part.name == "__init__"]
+                    told.update({node.name: [part.arg for part in made.args.args[1:]] for made in own})
+        for name, words in ARGUMENTS.items():
+            self.assertEqual(told[name], words.split(), name)
+
     def test_each_name_is_defined_in_its_file(self):
         for stem, names in INTERFACE.items():
             tree = ast.parse((PACKAGE / f"{stem}.py").read_text())

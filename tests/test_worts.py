@@ -7,8 +7,8 @@ from mashrunnings.errors import TooMuch
 from mashrunnings.fractions import plus
 from mashrunnings.worts import is_wort, parted, points_of, poured, strength_of, weakened
 from tests.samples import (
-    any_thing, as_lists, as_mixture, changed_ones, dice, is_told_plainly, nested, pair_of, random_worth, random_wort,
-    worth_of_pair, wort_of,
+    any_thing, as_lists, as_mixture, changed_ones, dice, is_fraction_plainly, is_told_plainly, nested, pair_of,
+    random_worth, random_wort, worth_of_pair, wort_of,
 )
 
 MALTS = ("a", "amber", "black", "brown", "crystal", "mild", "pale", "zzzzzzzz")
@@ -20,9 +20,7 @@ BIGGEST = wort_of(Fraction(BIG, BIG - 1), {malt: Fraction(BIG - at, BIG - at - 1
 
 
 def is_fraction_above(thing):
-    if type(thing) is not tuple or len(thing) != 2 or [type(part) for part in thing] != [int, int]:
-        return False
-    return thing[0] > 0 and thing[1] > 0 and pair_of(Fraction(*thing)) == thing
+    return is_fraction_plainly(thing) and thing[0] > 0
 
 
 def is_malt(thing):
