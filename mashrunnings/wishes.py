@@ -4,8 +4,8 @@ prices are a fraction from nought on for each running, the price of a gallon of 
 """
 
 from mashrunnings.blends import blends_of
-from mashrunnings.fractions import NOUGHT, common_below, is_under, made, plus, times
-from mashrunnings.kinds import is_name, is_number
+from mashrunnings.fractions import NOUGHT, common_below, is_fraction, is_under, made, plus, times
+from mashrunnings.kinds import is_name, is_number, is_row
 from mashrunnings.worts import points_of
 
 MOST_GALLONS = 10 ** 4
@@ -30,6 +30,13 @@ def running_of(wort):
 def reaches(runnings, wish):
     """Whether some of the runnings, mixed as one likes, have a strength within the wish."""
     return len(blends_of(runnings, wish)) > 0
+
+
+def are_prices(runnings, thing):
+    """Whether a thing is prices: a list or a tuple of a fraction from nought on for each running."""
+    if not is_row(thing) or len(thing) != len(runnings):
+        return False
+    return all(is_fraction(price) and price[0] >= 0 for price in thing)
 
 
 def cost_of(runnings, wish, prices):

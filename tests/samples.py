@@ -293,3 +293,72 @@ def shared_lists(things):
     for part in found:
         known.setdefault(id(part), []).append(part)
     return [parts[0] for parts in known.values() if len(parts) > 1]
+
+
+def reached_wishes(rolls, many, runnings, most_gallons=100):
+    """So many wishes that all are reached, of one strength or between two."""
+    strengths = [strength for _, strength in running_worths(runnings)]
+    low, high = math.ceil(min(strengths)), math.floor(max(strengths))
+    wishes = []
+    for beer in rolls.sample(["a", "b", "mild", "porter", "small", "zzzzzzzz"], many):
+        least = math.floor(min(strengths)) if low > high else rolls.randint(low, high)
+        most = least + (1 if low > high else rolls.choice((0, 0, 1, 9)))
+        wishes.append((beer, rolls.randint(1, most_gallons), least, most))
+    return wishes
+
+
+def are_prices_plainly(runnings, thing):
+    """Whether a thing is a list or tuple of a fraction from nought on for each running."""
+    if type(thing) not in (list, tuple) or len(thing) != len(runnings):
+        return False
+    return all(is_fraction_plainly(price) and price[0] >= 0 for price in thing)
+
+
+def cost_of_all_plainly(runnings, wishes, prices):
+    """What all wishes cost, as a Fraction; None where one has no cost."""
+    costs = [cost_plainly(runnings, wish, prices) for wish in wishes]
+    return None if None in costs else sum(cost * wish[1] for cost, wish in zip(costs, wishes))
+
+
+def worth_plainly(runnings, prices):
+    """The price of all runnings, as a Fraction."""
+    return sum(worth_of_pair(gallons) * worth_of_pair(price) for (gallons, _), price in zip(runnings, prices))
+
+
+def none_plainly(runnings, wishes, thing):
+    """Whether a thing is prices that show that no mixing makes the wishes, by Fractions."""
+    if not are_prices_plainly(runnings, thing):
+        return False
+    cost = cost_of_all_plainly(runnings, wishes, thing)
+    return cost is None or cost > worth_plainly(runnings, thing)
+
+
+def is_told_mixing(thing):
+    """Whether a thing is lists and tuples just as a mixing is told."""
+    if type(thing) is not list or not all(type(row) is list for row in thing):
+        return False
+    return all(is_portion_plainly(part, 10 ** 9) for row in thing for part in row)
+
+
+def whole_brew(rolls, many_runnings, many_wishes):
+    """Runnings, wishes and a mixing that makes them of just all that there is: whole numbers all through."""
+    rows = [[rolls.choice((0, 1, 2, 7)) for _ in range(many_runnings)] for _ in range(many_wishes)]
+    for number in range(many_runnings):
+        rows[rolls.randrange(many_wishes)][number] += 1
+    for row in rows:
+        row[rolls.randrange(many_runnings)] += 1
+    strengths = [rolls.choice((0, rolls.randint(0, 99), 50)) for _ in range(many_runnings)]
+    wholes = [sum(row[number] for row in rows) for number in range(many_runnings)]
+    runnings = [((whole, 1), (whole * strength, 1)) for whole, strength in zip(wholes, strengths)]
+    wishes, mixing = [], []
+    for beer, row in zip(("a", "b", "mild", "porter"), rows):
+        strength = Fraction(sum(part * worth for part, worth in zip(row, strengths)), sum(row))
+        wishes.append((beer, sum(row), math.floor(strength), math.ceil(strength)))
+        mixing.append([(number, (part, 1)) for number, part in enumerate(row) if part])
+    return runnings, wishes, mixing
+
+
+def deep_things(rolls, good):
+    """Things of any kind: some made by chance, and a good one with one of its parts made by chance."""
+    path = rolls.choice(places_in(good))
+    return [any_thing(rolls, 6), with_part(good, path, any_thing(rolls, 6 - len(path)))]

@@ -1,6 +1,7 @@
 """Tests that the package keeps to the rules of LANGUAGE.md that a plain look at its files shows, and to the interface."""
 
 import ast
+import builtins
 import re
 import unittest
 from pathlib import Path
@@ -30,6 +31,10 @@ INTERFACE = {
     "mashes": ["Mash"],
     "wishes": "is_wish running_of reaches cost_of worth_of".split(),
     "mixings": "shows_mixing strengths_of rests_of".split(),
+    "making": "shows_none made_of".split(),
+    "leasts": "many_times least_of shows_least grain_of".split(),
+    "vessels": "stays_of housed shows_lack shows_plan".split(),
+    "weaker": "made_weaker still_good fewest_changed shows_fewest".split(),
 }
 INTERFACE_METHODS = {
     "Mash": "__init__ liquor pour draw most_drawn give_back inside solved in_grains twin_mash".split(),
@@ -38,7 +43,12 @@ ARGUMENTS = {
     "Mash": "malts share held", "liquor": "gallons", "pour": "wort", "draw": "gallons", "give_back": "parts",
     "is_wish": "thing", "running_of": "wort", "reaches": "runnings wish", "cost_of": "runnings wish prices",
     "worth_of": "runnings prices", "shows_mixing": "runnings wishes thing", "strengths_of": "runnings mixing",
-    "rests_of": "runnings mixing",
+    "rests_of": "runnings mixing", "shows_none": "runnings wishes thing", "made_of": "runnings wishes",
+    "many_times": "runnings times", "least_of": "runnings wishes", "shows_least": "runnings wishes times mixing thing",
+    "grain_of": "malts times", "stays_of": "runnings_at wishes mixing days", "housed": "vessels stays",
+    "shows_lack": "vessels stays thing", "shows_plan": "vessels stays thing", "made_weaker": "runnings number points",
+    "still_good": "runnings wishes mixing", "fewest_changed": "runnings wishes mixing number points",
+    "shows_fewest": "runnings wishes mixing number points many thing",
 }
 
 
@@ -143,7 +153,7 @@ class LanguageTest(unittest.TestCase):
             own = own_names(tree)
             for word in own - methods_of_all():
                 self.assertFalse(word.startswith("_"), (name, word))
-                self.assertNotIn(word, BUILTINS, name)
+                self.assertNotIn(word, dir(builtins), name)
             for node in ast.walk(tree):
                 if isinstance(node, ast.Name) and isinstance(node.ctx, ast.Load):
                     self.assertIn(node.id, own | BUILTINS, (name, node.lineno))
