@@ -23,3 +23,8 @@ def is_pair(thing):
 def is_row(thing):
     """Whether a thing is a list or a tuple: where a list is told, either one may be looked at."""
     return isinstance(thing, (list, tuple))
+
+
+def is_number_from(thing, least, most):
+    """Whether a thing is a whole number from least to most."""
+    return is_number(thing) and least <= thing <= most

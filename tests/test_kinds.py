@@ -2,7 +2,7 @@
 
 import unittest
 
-from mashrunnings.kinds import is_name, is_number, is_pair, is_row
+from mashrunnings.kinds import is_name, is_number, is_number_from, is_pair, is_row
 from tests.samples import WRONG_LEAVES
 
 
@@ -12,6 +12,14 @@ class KindsTest(unittest.TestCase):
             self.assertIs(is_number(number), True)
         for thing in (True, False, None, "", "1", (), (1,), [], [1]):
             self.assertIs(is_number(thing), False, repr(thing))
+
+    def test_numbers_from_least_to_most(self):
+        for number in (3, 4, 5):
+            self.assertIs(is_number_from(number, 3, 5), True)
+        for thing in (2, 6, -4, None, "4", (4,), [4], ()):
+            self.assertIs(is_number_from(thing, 3, 5), False, repr(thing))
+        for thing in (True, False):
+            self.assertIs(is_number_from(thing, 0, 1), False, repr(thing))
 
     def test_names_are_one_to_eight_letters(self):
         for name in ("a", "z", "pale", "abcdefgh", "zzzzzzzz"):

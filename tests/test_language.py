@@ -35,9 +35,13 @@ INTERFACE = {
     "leasts": "many_times least_of shows_least grain_of".split(),
     "vessels": "stays_of housed shows_lack shows_plan".split(),
     "weaker": "made_weaker still_good fewest_changed shows_fewest".split(),
+    "rates": "are_rates rate_of pence_of bill_of".split(),
+    "deeds": "is_deed names_in".split(),
+    "book": ["Book"],
 }
 INTERFACE_METHODS = {
     "Mash": "__init__ liquor pour draw most_drawn give_back inside solved in_grains twin_mash".split(),
+    "Book": "__init__ enter put_right strike undo entry entries times as_entered twin_book prices duty".split(),
 }
 ARGUMENTS = {
     "Mash": "malts share held", "liquor": "gallons", "pour": "wort", "draw": "gallons", "give_back": "parts",
@@ -48,7 +52,10 @@ ARGUMENTS = {
     "grain_of": "malts times", "stays_of": "runnings_at wishes mixing days", "housed": "vessels stays",
     "shows_lack": "vessels stays thing", "shows_plan": "vessels stays thing", "made_weaker": "runnings number points",
     "still_good": "runnings wishes mixing", "fewest_changed": "runnings wishes mixing number points",
-    "shows_fewest": "runnings wishes mixing number points many thing",
+    "shows_fewest": "runnings wishes mixing number points many thing", "are_rates": "thing",
+    "rate_of": "rates strength", "pence_of": "rates wort", "bill_of": "prices duty worts", "is_deed": "thing",
+    "names_in": "deed", "Book": "prices duty", "enter": "hour deed", "put_right": "number hour deed", "strike": "number",
+    "undo": "", "entry": "number", "as_entered": "many",
 }
 
 
