@@ -35,13 +35,17 @@ def is_wort(thing):
     return is_pair(thing) and is_above_nought(thing[0]) and are_parts(thing[1])
 
 
-def points_of(wort):
-    """All points of a wort together."""
-    gallons, parts = wort
+def points_of_parts(parts):
+    """All points of pairs (malt, points) together."""
     together = NOUGHT
     for malt, points in parts:
         together = plus(together, points)
     return together
+
+
+def points_of(wort):
+    """All points of a wort together."""
+    return points_of_parts(wort[1])
 
 
 def strength_of(wort):

@@ -38,10 +38,15 @@ INTERFACE = {
     "rates": "are_rates rate_of pence_of bill_of".split(),
     "deeds": "is_deed names_in".split(),
     "book": ["Book"],
+    "accounts": ["Account"],
+    "traces": "runnings_in malts_in casks_of mash_of sums_of unlike_casks".split(),
+    "texts": "book_text book_of".split(),
+    "desk": ["run"],
 }
 INTERFACE_METHODS = {
     "Mash": "__init__ liquor pour draw most_drawn give_back inside solved in_grains twin_mash".split(),
     "Book": "__init__ enter put_right strike undo entry entries times as_entered twin_book prices duty".split(),
+    "Account": "__init__ rows voids names left first mash_left sold given gone last_hour".split(),
 }
 ARGUMENTS = {
     "Mash": "malts share held", "liquor": "gallons", "pour": "wort", "draw": "gallons", "give_back": "parts",
@@ -55,7 +60,10 @@ ARGUMENTS = {
     "shows_fewest": "runnings wishes mixing number points many thing", "are_rates": "thing",
     "rate_of": "rates strength", "pence_of": "rates wort", "bill_of": "prices duty worts", "is_deed": "thing",
     "names_in": "deed", "Book": "prices duty", "enter": "hour deed", "put_right": "number hour deed", "strike": "number",
-    "undo": "", "entry": "number", "as_entered": "many",
+    "undo": "", "entry": "number", "as_entered": "many", "Account": "book hour", "names": "sort", "left": "sort name", "first": "sort name",
+    "mash_left": "mash", "gone": "kind", "last_hour": "", "runnings_in": "account sort name", "malts_in": "account sort name",
+    "casks_of": "account running", "mash_of": "account running", "sums_of": "account", "unlike_casks": "one other",
+    "book_text": "book", "book_of": "text", "run": "text",
 }
 
 
